@@ -273,7 +273,7 @@ func TestAnyActs(t *testing.T) {
 	}
 }
 
-// Each act, of each number, at all views that few places have, with all draws that there are.
+// Each act, of each node, at all views of one node that have one or two places, with all draws that there are.
 func TestEachActAtAllSmallViews(t *testing.T) {
 	const self = 4
 	sets := func(most int) [][]int {
@@ -304,7 +304,7 @@ func eachAct(t *testing.T, self int, places [2]int, in, out []int) {
 	t.Helper()
 	for _, numbers := range [][]int{nil, {1}, {0, 0, 7}, {1, 0, 7}, {0, 1, 7}, {1, 1, 7}} {
 		for _, a := range acts {
-			for _, n := range []int{-1, 0, 1, 4, 5, 10, 11, 12} {
+			for n := -1; n < 13; n++ {
 				b := with(t, self, places[0], places[1], in, out, numbers)
 				what := fmt.Sprint(a.name, " ", n, " of ", places, in, out, numbers)
 				b.acts(t, what, a, n)
